@@ -1,0 +1,1 @@
+"""Settingsmerge: a user's settings through every release of a program."""

@@ -1,0 +1,205 @@
+"""Finds code of the package that breaks a rule of LANGUAGE.md, as far as the text of a file shows it."""
+
+import ast
+import builtins
+import re
+
+PACKAGE = "settingsmerge"
+
+ERRORS = {
+    "Exception", "ValueError", "TypeError", "KeyError", "IndexError", "LookupError", "ZeroDivisionError",
+    "ArithmeticError", "OverflowError", "RuntimeError", "NotImplementedError", "AttributeError", "StopIteration",
+}
+BUILTINS = ERRORS | {
+    "len", "range", "enumerate", "zip", "min", "max", "sum", "abs", "sorted", "reversed", "int", "str", "bool", "bytes",
+    "list", "tuple", "dict", "set", "isinstance", "ord", "repr", "any", "all", "divmod", "NotImplemented", "iter",
+    "next", "super", "property", "staticmethod", "classmethod",
+}
+DUNDERS = {
+    "__init__", "__eq__", "__repr__", "__str__", "__len__", "__enter__", "__exit__", "__call__", "__iter__",
+    "__contains__", "__lt__", "__le__", "__gt__", "__ge__", "__ne__", "__getitem__", "__setitem__", "__bool__",
+}
+METHODS = set(
+    "append clear copy count endswith extend find get index insert isalnum isalpha isdigit islower isspace isupper items "
+    "join keys ljust lower lstrip partition pop remove replace reverse rfind rjust rpartition rsplit rstrip setdefault "
+    "split splitlines startswith strip update upper values zfill bit_length add discard".split()
+)
+NODES = (
+    ast.AsyncFunctionDef, ast.AsyncFor, ast.AsyncWith, ast.Await, ast.Global, ast.Div, ast.MatMult, ast.YieldFrom,
+    ast.GeneratorExp, ast.Try, ast.With, ast.Match, ast.AnnAssign, ast.Import,
+)
+BARRED_WORDS = re.compile(
+    r"\b(type|typing|typing_extensions|enum|Enum|IntEnum|StrEnum|Flag|IntFlag|Generic|Protocol|ABC|ABCMeta|namedtuple|"
+    r"NamedTuple|TypedDict|TYPE_CHECKING|abstractmethod)\b|dataclass|overload|contextmanager"
+)
+BARRED_NAMES = set(
+    "register mro elements open input version_info with_traceback add_note format format_map attrgetter breakpoint "
+    "builtins compile copyright credits delattr dir eval exec exit gc getattr globals hasattr help id importlib license "
+    "locals methodcaller os quit setattr vars sys chr frozenset args".split()
+)
+BARRED_ATTRIBUTES = set(
+    "items keys values pop update append clear extend insert remove reverse setdefault sort args encode decode hex "
+    "fromhex format".split()
+)
+
+
+def text_faults(source):
+    """Sizes, characters and words: L10, L14, L17."""
+    rows = source.split("\n")
+    if len(rows) > 400:
+        yield 1, "L10: a file of more than 400 lines"
+    for number, row in enumerate(rows, 1):
+        if len(row) > 120:
+            yield number, "L10: a line of more than 120 characters"
+        if not all(" " <= character <= "~" for character in row):
+            yield number, "L14: a character that is not allowed"
+        if BARRED_WORDS.search(row):
+            yield number, "L17: a word that is not allowed"
+
+
+def parents_of(tree):
+    return {child: node for node in ast.walk(tree) for child in ast.iter_child_nodes(node)}
+
+
+def bound_names(tree):
+    """The names that a file binds, with their lines."""
+    for node in ast.walk(tree):
+        if isinstance(node, (ast.FunctionDef, ast.ClassDef)):
+            yield node.name, node
+        elif isinstance(node, ast.arg):
+            yield node.arg, node
+        elif isinstance(node, ast.Name) and not isinstance(node.ctx, ast.Load):
+            yield node.id, node
+
+
+def name_faults(tree):
+    """L8, L12, L15, L17."""
+    classes = {node.name for node in tree.body if isinstance(node, ast.ClassDef)}
+    imports = {name.name for node in tree.body if isinstance(node, ast.ImportFrom) for name in node.names}
+    methods = {node for each in tree.body if isinstance(each, ast.ClassDef) for node in each.body}
+    for name, node in bound_names(tree):
+        if name in DUNDERS and node in methods:
+            continue
+        if name.startswith("_") or not name.isascii():
+            yield node.lineno, f"L12: the name {name}"
+        if name in BARRED_NAMES:
+            yield node.lineno, f"L17: the name {name}"
+        if node not in methods and not isinstance(node, ast.ClassDef) and (
+                name in classes or name in imports or hasattr(builtins, name)):
+            yield node.lineno, f"L15: {name} means something else already"
+    for node in ast.walk(tree):
+        if isinstance(node, ast.Name) and hasattr(builtins, node.id) and node.id not in BUILTINS:
+            yield node.lineno, f"L8: the builtin {node.id}"
+        if isinstance(node, ast.Attribute) and (node.attr.startswith("_") and node.attr != "__init__"):
+            yield node.lineno, f"L12: the attribute {node.attr}"
+
+
+def module_faults(tree):
+    """L2, L3, L10, L16."""
+    for at, node in enumerate(tree.body):
+        if isinstance(node, ast.ImportFrom):
+            if node.level or not (node.module or "").startswith(PACKAGE + ".") or any(n.asname for n in node.names):
+                yield node.lineno, "L2: an import from outside the package"
+            if not all(isinstance(each, (ast.ImportFrom, ast.Expr)) for each in tree.body[:at]):
+                yield node.lineno, "L2: an import that is not at the top"
+        elif isinstance(node, ast.Expr):
+            if at or not isinstance(node.value, ast.Constant):
+                yield node.lineno, "L3: an expression at module level"
+        elif not isinstance(node, (ast.FunctionDef, ast.ClassDef, ast.Assign)):
+            yield node.lineno, "L3: a statement at module level"
+    for node in ast.walk(tree):
+        if isinstance(node, ast.FunctionDef):
+            if node.end_lineno - node.lineno + 1 > 40:
+                yield node.lineno, "L10: a function of more than 40 lines"
+            if node.args.posonlyargs:
+                yield node.lineno, "L4: a parameter by position only"
+
+
+def is_set(node):
+    return isinstance(node, (ast.Set, ast.SetComp)) or (
+        isinstance(node, ast.Call) and isinstance(node.func, ast.Name) and node.func.id == "set")
+
+
+def expression_faults(tree):
+    """L6, L7, L19, L20, L24, L27."""
+    parents = parents_of(tree)
+    for node in ast.walk(tree):
+        if isinstance(node, NODES):
+            yield getattr(node, "lineno", 0), f"L6, L7: {node.__class__.__name__} (not used in this package so far)"
+        if isinstance(node, ast.Constant):
+            if isinstance(node.value, str) and "%" in node.value:
+                yield node.lineno, "L27: a percent sign in a string"
+            if isinstance(node.value, (float, complex)):
+                yield node.lineno, "L7: a float"
+        if isinstance(node, ast.Compare):
+            for sign, side in zip(node.ops, node.comparators):
+                if isinstance(sign, (ast.Is, ast.IsNot)) and not (
+                        isinstance(side, ast.Constant) and side.value in (None, True, False)):
+                    yield node.lineno, "L20: is"
+        if isinstance(node, ast.Raise) and not (
+                isinstance(node.exc, ast.Call) and isinstance(node.exc.func, ast.Name)):
+            yield node.lineno, "L19: an error that is not created on the spot"
+        if is_set(node):
+            around = parents[node]
+            direct = isinstance(around, ast.Call) and getattr(around.func, "id", "") in ("sorted", "len")
+            if not (direct and not around.keywords):
+                yield node.lineno, "L24: a set (outside of sorted and len not used in this package so far)"
+
+
+def class_faults(tree):
+    """L5, L26, L28."""
+    for each in [node for node in ast.walk(tree) if isinstance(node, ast.ClassDef)]:
+        for node in each.body:
+            if not isinstance(node, (ast.FunctionDef, ast.Assign)) and not (
+                    isinstance(node, ast.Expr) and isinstance(node.value, ast.Constant)):
+                yield node.lineno, "L5: a statement in a class"
+            if isinstance(node, ast.FunctionDef) and node.name.startswith("__"):
+                if node.name not in DUNDERS:
+                    yield node.lineno, f"L5: {node.name}"
+                shapes = {"__len__": ("len",), "__str__": ("str", "join"), "__repr__": ("str", "repr", "join")}
+                for inner in ast.walk(node):
+                    if isinstance(inner, ast.Return) and node.name in shapes:
+                        call = getattr(inner.value, "func", None)
+                        if getattr(call, "id", getattr(call, "attr", "")) not in shapes[node.name] and not (
+                                isinstance(inner.value, (ast.Constant, ast.JoinedStr))):
+                            yield inner.lineno, f"L28: what {node.name} returns"
+
+
+def faults(source):
+    """The tuples (line, fault) of one file."""
+    tree = ast.parse(source)
+    parts = [name_faults, module_faults, expression_faults, class_faults]
+    return sorted(set(text_faults(source)) | {fault for part in parts for fault in part(tree)})
+
+
+def owned(trees):
+    """The names of the methods, the properties and the assigned attributes of all files."""
+    methods, properties, attributes = set(), set(), set()
+    for tree in trees:
+        for each in [node for node in ast.walk(tree) if isinstance(node, ast.ClassDef)]:
+            for node in each.body:
+                if isinstance(node, ast.FunctionDef):
+                    (properties if node.decorator_list else methods).add(node.name)
+        for node in ast.walk(tree):
+            if isinstance(node, ast.Attribute) and isinstance(node.ctx, ast.Store):
+                attributes.add(node.attr)
+    return methods, properties, attributes
+
+
+def shared_faults(sources):
+    """What only all files together show: L18, L25, L26."""
+    trees = [ast.parse(source) for source in sources]
+    methods, properties, attributes = owned(trees)
+    found = [f"L18: {name} is a method and an attribute" for name in sorted(methods & attributes)]
+    found += [f"L5: {name} is a property and something else" for name in sorted(properties & (methods | attributes))]
+    found += [f"L26: the attribute {name}" for name in sorted(attributes & BARRED_ATTRIBUTES)]
+    for tree in trees:
+        parents = parents_of(tree)
+        for node in ast.walk(tree):
+            if isinstance(node, ast.Attribute) and isinstance(node.ctx, ast.Load):
+                called = isinstance(parents[node], ast.Call) and parents[node].func is node
+                if called and node.attr not in methods | METHODS:
+                    found.append(f"L25: the method {node.attr}, line {node.lineno}")
+                if not called and node.attr not in properties | attributes | {"setter"}:
+                    found.append(f"L18: the attribute {node.attr} is not assigned, line {node.lineno}")
+    return found

@@ -1,0 +1,73 @@
+"""The package keeps to the rules of LANGUAGE.md, and the search for faults finds some where there are some."""
+
+import ast
+import pathlib
+import unittest
+import warnings
+
+import language
+
+ROOT = pathlib.Path(__file__).resolve().parent.parent
+FOLDER = ROOT / language.PACKAGE
+
+
+def sources():
+    return {path.name: path.read_text(encoding="utf-8") for path in sorted(FOLDER.glob("*.py"))}
+
+
+class PackageTest(unittest.TestCase):
+    def test_the_folder_contains_nothing_else(self):
+        others = [path.name for path in FOLDER.iterdir() if path.suffix != ".py" and path.name != "__pycache__"]
+        self.assertEqual(others, [])
+        for name in sources():
+            self.assertRegex(name, r"\A([a-z][a-z0-9_]*|__init__|__main__)\.py\Z")
+
+    def test_no_file_has_a_fault(self):
+        for name, source in sources().items():
+            with self.subTest(name):
+                self.assertEqual(language.faults(source), [])
+
+    def test_python_gives_no_warning(self):
+        for name, source in sources().items():
+            with self.subTest(name), warnings.catch_warnings():
+                warnings.simplefilter("error")
+                compile(source, name, "exec")
+
+    def test_all_files_together_have_no_fault(self):
+        self.assertEqual(language.shared_faults(sources().values()), [])
+
+    def test_imports_name_the_file_that_defines_the_name(self):
+        trees = {name: ast.parse(source) for name, source in sources().items()}
+        for name, tree in trees.items():
+            for node in ast.walk(tree):
+                if isinstance(node, ast.ImportFrom):
+                    other = trees[node.module.split(".")[1] + ".py"]
+                    defined = {each for each, where in language.bound_names(other) if where.col_offset == 0}
+                    self.assertLessEqual({alias.name for alias in node.names}, defined, name)
+
+
+class FaultsTest(unittest.TestCase):
+    def test_faults_are_found(self):
+        for code in [
+            "import os", "from json import loads", "def f(a, /):\n    return a", "x = 1.5", "def f(x):\n    return x / 2",
+            "def f(x):\n    return x is f", "def f(_x):\n    return 1", "def f(x):\n    return any(a for a in x)",
+            "def f(id):\n    return id", "def f(x):\n    return hash(x)", "X = \"a%\"", "X = 1\t",
+            "def f(x):\n    seen = {1}\n    return x in seen", "X = 1 #" + "x" * 120, "# type", "f()",
+            "class A:\n    def __len__(self):\n        return self.x", "class A:\n    def __hash__(self):\n        return 1",
+            "def f():\n    raise ValueError", "def f():\n" + "    pass\n" * 40, "#\n" * 400,
+        ]:
+            with self.subTest(code):
+                self.assertNotEqual(language.faults(code), [])
+
+    def test_shared_faults_are_found(self):
+        for code in [
+            "class A:\n    def __init__(self):\n        self.x = 1\nclass B:\n    def x(self):\n        return 1",
+            "class A:\n    def __init__(self):\n        self.keys = 1", "def f(x):\n    return x.missing",
+            "def f(x):\n    x.sort()",
+        ]:
+            with self.subTest(code):
+                self.assertNotEqual(language.shared_faults([code]), [])
+
+
+if __name__ == "__main__":
+    unittest.main()
