@@ -35,6 +35,16 @@ def is_value(thing):
     return is_made_of(thing, LETTERS + DIGITS + "-", LONGEST_VALUE) and not thing.startswith("-")
 
 
+def section_of(place):
+    """The section of a place."""
+    return place.partition(".")[0]
+
+
+def key_of(place):
+    """The key of a place."""
+    return place.partition(".")[2]
+
+
 def is_release_word(thing):
     """Whether any object is a release as a kept line writes it."""
     return is_made_of(thing, DIGITS, LONGEST_RELEASE) and (thing == "0" or not thing.startswith("0"))

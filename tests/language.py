@@ -26,8 +26,17 @@ METHODS = set(
 )
 NODES = (
     ast.AsyncFunctionDef, ast.AsyncFor, ast.AsyncWith, ast.Await, ast.Global, ast.Div, ast.MatMult, ast.YieldFrom,
-    ast.GeneratorExp, ast.Try, ast.With, ast.Match, ast.AnnAssign, ast.Import,
+    ast.GeneratorExp, ast.With, ast.Match, ast.AnnAssign, ast.Import, ast.Lambda, ast.NamedExpr, ast.Nonlocal,
+    ast.Assert, ast.Delete,
 )
+PYTHON_CALLS = {"len", "range", "enumerate", "zip", "abs", "reversed", "int", "str", "bool", "list", "tuple", "dict",
+                "set", "isinstance", "ord", "repr", "any", "all", "divmod"}
+KEYWORDS = {"sorted": {"key", "reverse"}, "min": {"key", "default"}, "max": {"key", "default"}, "sum": {"start"},
+            "enumerate": {"start"}, "zip": {"strict"}}
+PASSING = {"zip", "enumerate", "reversed", "range"}
+TAKING = {"list", "tuple", "dict", "sorted", "sum", "any", "all", "enumerate", "zip", "min", "max"}
+SILENT = {"__eq__", "__repr__", "__str__", "__len__", "__contains__"}
+CHANGING = {"append", "clear", "extend", "insert", "pop", "remove", "reverse", "setdefault", "update", "add", "discard"}
 BARRED_WORDS = re.compile(
     r"\b(type|typing|typing_extensions|enum|Enum|IntEnum|StrEnum|Flag|IntFlag|Generic|Protocol|ABC|ABCMeta|namedtuple|"
     r"NamedTuple|TypedDict|TYPE_CHECKING|abstractmethod)\b|dataclass|overload|contextmanager"
@@ -120,6 +129,108 @@ def is_set(node):
         isinstance(node, ast.Call) and isinstance(node.func, ast.Name) and node.func.id == "set")
 
 
+def decorator_names(node):
+    return [getattr(each, "id", getattr(each, "attr", "")) for each in node.decorator_list]
+
+
+def called_name(node):
+    """The name of the function that a call calls, the attribute for a method, an empty string for anything else."""
+    if not isinstance(node, ast.Call):
+        return ""
+    return getattr(node.func, "id", getattr(node.func, "attr", ""))
+
+
+def handler_faults(tree):
+    """L6, L19: only errors of the package are caught so far, each by its name, and without a finally."""
+    own = {name.name for node in tree.body if isinstance(node, ast.ImportFrom)
+           and node.module == PACKAGE + ".errors" for name in node.names}
+    for node in ast.walk(tree):
+        if isinstance(node, ast.Try) and node.finalbody:
+            yield node.lineno, "L6: a finally (not used in this package so far)"
+        if isinstance(node, ast.ExceptHandler) and getattr(node.type, "id", "") not in own:
+            yield node.lineno, "L19: a handler of something else than an own error"
+
+
+def call_faults(tree):
+    """L22, L23: keywords of builtins, and what is iterated at once."""
+    parents = parents_of(tree)
+    for node in [each for each in ast.walk(tree) if isinstance(each, ast.Call)]:
+        name = called_name(node)
+        plain = isinstance(node.func, ast.Name)
+        if plain and name in PYTHON_CALLS | set(KEYWORDS):
+            if {each.arg for each in node.keywords} - KEYWORDS.get(name, set()):
+                yield node.lineno, f"L22: keywords of {name}"
+        if (plain and name in PASSING) or (not plain and name in {"items", "keys", "values"}):
+            around = parents[node]
+            looped = isinstance(around, (ast.For, ast.comprehension)) and around.iter is node
+            if not looped and called_name(around) not in TAKING:
+                yield node.lineno, f"L23: {name} is not iterated at once"
+
+
+def loop_faults(tree):
+    """L23: what a loop iterates over, by its very words, is not changed in it."""
+    for loop in [each for each in ast.walk(tree) if isinstance(each, ast.For)]:
+        over = loop.iter
+        while isinstance(over, ast.Call) and isinstance(over.func, ast.Name) and over.func.id in PASSING and over.args:
+            over = over.args[0]
+        words = ast.unparse(over)
+        for node in [inner for part in loop.body for inner in ast.walk(part)]:
+            if isinstance(node, ast.Call) and isinstance(node.func, ast.Attribute) and node.func.attr in CHANGING:
+                changed = ast.unparse(node.func.value)
+            elif isinstance(node, ast.Subscript) and not isinstance(node.ctx, ast.Load):
+                changed = ast.unparse(node.value)
+            elif isinstance(node, ast.AugAssign):
+                changed = ast.unparse(node.target)
+            else:
+                continue
+            if changed == words:
+                yield node.lineno, f"L23: {words} is changed while it is iterated"
+
+
+def silence_faults(tree):
+    """L5, L28: operators, properties and their kin assign nothing but new lists, and change nothing."""
+    for node in [each for each in ast.walk(tree) if isinstance(each, ast.FunctionDef)]:
+        if node.name not in SILENT and "property" not in decorator_names(node):
+            continue
+        for inner in ast.walk(node):
+            if isinstance(inner, ast.Assign) and not (
+                    isinstance(inner.value, (ast.List, ast.ListComp))
+                    and all(isinstance(target, ast.Name) for target in inner.targets)):
+                yield inner.lineno, f"L28: an assignment in {node.name}"
+            if isinstance(inner, ast.AugAssign) or (isinstance(inner, ast.Attribute) and inner.attr in CHANGING):
+                yield inner.lineno, f"L28: a change in {node.name}"
+        if not isinstance(node.body[-1], ast.Return):
+            yield node.lineno, f"L28: {node.name} does not end with a return"
+
+
+def is_plain(node):
+    if isinstance(node, ast.UnaryOp) and isinstance(node.op, ast.USub):
+        return is_plain(node.operand)
+    return isinstance(node, ast.Constant) or (isinstance(node, ast.Tuple) and all(map(is_plain, node.elts)))
+
+
+def signature_faults(tree):
+    """L4, L5, L15: default values, decorators, names that are bound once."""
+    methods = {node for each in tree.body if isinstance(each, ast.ClassDef) for node in each.body}
+    for node in [each for each in ast.walk(tree) if isinstance(each, ast.FunctionDef)]:
+        defaults = node.args.defaults + [each for each in node.args.kw_defaults if each is not None]
+        if not all(is_plain(each) for each in defaults):
+            yield node.lineno, "L4: a default value that is not plain"
+        if set(decorator_names(node)) - {"property", "setter", "staticmethod", "classmethod"}:
+            yield node.lineno, "L4: a decorator"
+        if node.decorator_list and (node not in methods or len(node.decorator_list) > 1):
+            yield node.lineno, "L5: a decorator outside of a class, or two"
+        if node not in methods and node.col_offset:
+            yield node.lineno, "L4: a nested function (not used in this package so far)"
+    for body in [tree.body] + [each.body for each in tree.body if isinstance(each, ast.ClassDef)]:
+        bound = [each.name for each in body if isinstance(each, (ast.FunctionDef, ast.ClassDef))
+                 and "setter" not in decorator_names(each)]
+        bound += [name.id for each in body if isinstance(each, ast.Assign) for name in each.targets]
+        bound += [name.name for each in body if isinstance(each, ast.ImportFrom) for name in each.names]
+        if len(bound) != len(set(bound)):
+            yield 1, "L15, L18: a name that is bound twice"
+
+
 def expression_faults(tree):
     """L6, L7, L19, L20, L24, L27."""
     parents = parents_of(tree)
@@ -168,38 +279,66 @@ def class_faults(tree):
 def faults(source):
     """The tuples (line, fault) of one file."""
     tree = ast.parse(source)
-    parts = [name_faults, module_faults, expression_faults, class_faults]
+    parts = [name_faults, module_faults, expression_faults, class_faults, handler_faults, call_faults, loop_faults,
+             silence_faults, signature_faults]
     return sorted(set(text_faults(source)) | {fault for part in parts for fault in part(tree)})
 
 
 def owned(trees):
-    """The names of the methods, the properties and the assigned attributes of all files."""
-    methods, properties, attributes = set(), set(), set()
+    """The names of the methods, the static and class methods, the properties, the attributes and the class values."""
+    methods, static, properties, attributes, values = set(), set(), set(), set(), set()
     for tree in trees:
         for each in [node for node in ast.walk(tree) if isinstance(node, ast.ClassDef)]:
             for node in each.body:
                 if isinstance(node, ast.FunctionDef):
-                    (properties if node.decorator_list else methods).add(node.name)
+                    names = decorator_names(node)
+                    kind = properties if "property" in names or "setter" in names else static if names else methods
+                    kind.add(node.name)
+                elif isinstance(node, ast.Assign):
+                    values.update(target.id for target in node.targets)
         for node in ast.walk(tree):
             if isinstance(node, ast.Attribute) and isinstance(node.ctx, ast.Store):
                 attributes.add(node.attr)
-    return methods, properties, attributes
+    return methods, static, properties, attributes, values
+
+
+def twice_faults(trees):
+    """L5, L18: a name that is of two kinds."""
+    kinds = list(zip(["method", "static method", "property", "attribute", "class value"], owned(trees)))
+    for at, (kind, names) in enumerate(kinds):
+        for other, others in kinds[at + 1:]:
+            for name in sorted(names & others):
+                yield f"L5, L18: {name} is a {kind} and a {other}"
+
+
+def cycle_faults(trees):
+    """L16: files that import from each other. The trees are a dict from the names of the files."""
+    needed = {name: {node.module.split(".")[-1] for node in tree.body if isinstance(node, ast.ImportFrom)}
+              for name, tree in trees.items()}
+    while needed:
+        free = [name for name in needed if not needed[name] & set(needed)]
+        if not free:
+            yield f"L16: {sorted(needed)} import from each other"
+            return
+        for name in free:
+            del needed[name]
 
 
 def shared_faults(sources):
-    """What only all files together show: L18, L25, L26."""
-    trees = [ast.parse(source) for source in sources]
-    methods, properties, attributes = owned(trees)
-    found = [f"L18: {name} is a method and an attribute" for name in sorted(methods & attributes)]
-    found += [f"L5: {name} is a property and something else" for name in sorted(properties & (methods | attributes))]
+    """What only all files together show: L5, L16, L18, L25, L26. The sources are a dict from the names of the files."""
+    named = {name: ast.parse(source) for name, source in sources.items()}
+    trees = list(named.values())
+    methods, static, properties, attributes, values = owned(trees)
+    found = list(twice_faults(trees)) + list(cycle_faults(named))
     found += [f"L26: the attribute {name}" for name in sorted(attributes & BARRED_ATTRIBUTES)]
+    found += [f"L5: the property {name}" for name in sorted(properties & METHODS)]
     for tree in trees:
         parents = parents_of(tree)
         for node in ast.walk(tree):
             if isinstance(node, ast.Attribute) and isinstance(node.ctx, ast.Load):
                 called = isinstance(parents[node], ast.Call) and parents[node].func is node
-                if called and node.attr not in methods | METHODS:
+                if called and node.attr not in methods | static | METHODS:
                     found.append(f"L25: the method {node.attr}, line {node.lineno}")
-                if not called and node.attr not in properties | attributes | {"setter"}:
+                if not called and node.attr not in properties | attributes | values | {"setter"}:
                     found.append(f"L18: the attribute {node.attr} is not assigned, line {node.lineno}")
     return found

@@ -34,7 +34,8 @@ class PackageTest(unittest.TestCase):
                 compile(source, name, "exec")
 
     def test_all_files_together_have_no_fault(self):
-        self.assertEqual(language.shared_faults(sources().values()), [])
+        files = {name.partition(".")[0]: source for name, source in sources().items()}
+        self.assertEqual(language.shared_faults(files), [])
 
     def test_imports_name_the_file_that_defines_the_name(self):
         trees = {name: ast.parse(source) for name, source in sources().items()}
@@ -55,6 +56,16 @@ class FaultsTest(unittest.TestCase):
             "def f(x):\n    seen = {1}\n    return x in seen", "X = 1 #" + "x" * 120, "# type", "f()",
             "class A:\n    def __len__(self):\n        return self.x", "class A:\n    def __hash__(self):\n        return 1",
             "def f():\n    raise ValueError", "def f():\n" + "    pass\n" * 40, "#\n" * 400,
+            "def f():\n    try:\n        g()\n    except ValueError:\n        pass", "def f(x=[]):\n    return x",
+            "from settingsmerge.errors import A\ndef f():\n    try:\n        g()\n    finally:\n        pass",
+            "def f(x):\n    y = range(x)\n    return y", "def f(x):\n    return x.items()",
+            "def f(x):\n    return print(x)", "def f(x):\n    return list(x, key=1)",
+            "def f(x):\n    for y in x:\n        x.append(y)", "def f(x):\n    for k, y in enumerate(x):\n        x[k] = y",
+            "class A:\n    def __eq__(self, other):\n        k = 1\n        return k == other",
+            "class A:\n    @property\n    def k(self):\n        self.x.append(1)\n        return 1",
+            "class A:\n    @other\n    def k(self):\n        return 1", "X = 1\nX = 2",
+            "class A:\n    def k(self):\n        return 1\n    def k(self):\n        return 2",
+            "def f(x):\n    def g(y):\n        return y\n    return g(x)", "def f(x):\n    return lambda y: y",
         ]:
             with self.subTest(code):
                 self.assertNotEqual(language.faults(code), [])
@@ -63,10 +74,19 @@ class FaultsTest(unittest.TestCase):
         for code in [
             "class A:\n    def __init__(self):\n        self.x = 1\nclass B:\n    def x(self):\n        return 1",
             "class A:\n    def __init__(self):\n        self.keys = 1", "def f(x):\n    return x.missing",
-            "def f(x):\n    x.sort()",
+            "def f(x):\n    x.sort()", "class A:\n    X = 1\n    def f(self):\n        return self.Y",
+            "class A:\n    @staticmethod\n    def x():\n        return 1\nclass B:\n    def x(self):\n        return 1",
+            "class A:\n    @property\n    def x(self):\n        return 1\n    def f(self):\n        self.x = 1",
+            "class A:\n    @property\n    def items(self):\n        return 1",
         ]:
             with self.subTest(code):
-                self.assertNotEqual(language.shared_faults([code]), [])
+                self.assertNotEqual(language.shared_faults({"a": code}), [])
+
+    def test_imports_in_a_circle_are_found(self):
+        files = {"a": "from settingsmerge.b import x", "b": "from settingsmerge.c import x", "c": "x = 1"}
+        self.assertEqual(language.shared_faults(files), [])
+        files["c"] = "from settingsmerge.a import x"
+        self.assertNotEqual(language.shared_faults(files), [])
 
 
 if __name__ == "__main__":
