@@ -141,14 +141,112 @@ def called_name(node):
 
 
 def handler_faults(tree):
-    """L6, L19: only errors of the package are caught so far, each by its name, and without a finally."""
+    """L6, L19: only errors of the package are caught so far, each by its name."""
     own = {name.name for node in tree.body if isinstance(node, ast.ImportFrom)
            and node.module == PACKAGE + ".errors" for name in node.names}
     for node in ast.walk(tree):
-        if isinstance(node, ast.Try) and node.finalbody:
-            yield node.lineno, "L6: a finally (not used in this package so far)"
-        if isinstance(node, ast.ExceptHandler) and getattr(node.type, "id", "") not in own:
-            yield node.lineno, "L19: a handler of something else than an own error"
+        if isinstance(node, ast.ExceptHandler):
+            caught = node.type.elts if isinstance(node.type, ast.Tuple) else [node.type]
+            if not caught or any(getattr(each, "id", "") not in own for each in caught):
+                yield node.lineno, "L19: a handler of something else than an own error"
+
+
+def is_simple(node):
+    """Whether L6 calls an expression simple: a name, an attribute, a literal without a sign."""
+    if isinstance(node, ast.Attribute):
+        return is_simple(node.value)
+    return isinstance(node, (ast.Name, ast.Constant))
+
+
+def is_none_test(node):
+    return (isinstance(node, ast.Compare) and isinstance(node.left, (ast.Name, ast.Attribute)) and len(node.ops) == 1
+            and isinstance(node.ops[0], (ast.Is, ast.IsNot)) and getattr(node.comparators[0], "value", 0) is None)
+
+
+def is_final(node):
+    """Whether a statement may stand in a finally: an assignment of what is simple, or an `if` over None."""
+    if isinstance(node, ast.If):
+        return is_none_test(node.test) and all(is_final(each) for each in node.body + node.orelse)
+    if not isinstance(node, ast.Assign) or len(node.targets) != 1:
+        return isinstance(node, ast.Pass)
+    sides = [node.targets[0], node.value]
+    if all(isinstance(side, ast.Tuple) for side in sides):
+        return len(sides[0].elts) == len(sides[1].elts) and all(is_simple(each) for side in sides for each in side.elts)
+    return all(is_simple(side) for side in sides)
+
+
+def finally_faults(tree):
+    """L6: what stands in a finally, and that the names it reads are assigned before the try."""
+    for function in [each for each in ast.walk(tree) if isinstance(each, ast.FunctionDef)]:
+        for node in [each for each in ast.walk(function) if isinstance(each, ast.Try) and each.finalbody]:
+            if not all(is_final(each) for each in node.finalbody):
+                yield node.lineno, "L6: a statement in a finally"
+            known = {each.arg for each in ast.walk(function.args) if isinstance(each, ast.arg)}
+            known |= {each.id for each in ast.walk(function) if isinstance(each, ast.Name)
+                      and isinstance(each.ctx, ast.Store) and each.lineno < node.lineno}
+            read = {each.id for part in node.finalbody for each in ast.walk(part) if isinstance(each, ast.Name)}
+            if read - known:
+                yield node.lineno, "L6: a finally reads what is not assigned before its try"
+
+
+def is_table_part(node, functions, nested):
+    """Whether an expression at module level is plain: L3, L15."""
+    if isinstance(node, (ast.List, ast.Dict)) and nested:
+        return False
+    if isinstance(node, ast.Dict):
+        return all(is_plain(key) for key in node.keys) and all(is_table_part(each, functions, True) for each in node.values)
+    if isinstance(node, (ast.List, ast.Tuple)):
+        return all(is_table_part(each, functions, True) for each in node.elts)
+    return is_plain(node) or (isinstance(node, ast.Name) and node.id in functions)
+
+
+def table_faults(tree):
+    """L3: values at module level are plain, and a function in a table is given a name before it is called."""
+    functions = set()
+    for node in tree.body:
+        if isinstance(node, ast.FunctionDef):
+            functions.add(node.name)
+        if isinstance(node, ast.Assign) and not is_table_part(node.value, functions, False):
+            yield node.lineno, "L3: a value at module level that is not plain"
+    for node in ast.walk(tree):
+        if isinstance(node, ast.Call) and isinstance(node.func, ast.Subscript):
+            yield node.lineno, "L3: an item that is called where it stands"
+
+
+def class_method_faults(tree):
+    """L5: in a class method, `cls` is called or asked for something, and nothing else happens to it."""
+    parents = parents_of(tree)
+    for function in [each for each in ast.walk(tree) if isinstance(each, ast.FunctionDef)]:
+        if "classmethod" in decorator_names(function):
+            for node in [each for each in ast.walk(function) if isinstance(each, ast.Name)]:
+                around = parents[node]
+                called = isinstance(around, ast.Call) and around.func is node
+                if node.id == function.args.args[0].arg and not called and not isinstance(around, ast.Attribute):
+                    yield node.lineno, "L5: the class of a class method is passed on"
+
+
+def generator_faults(tree):
+    """L23: a yield is a statement in loops and `if`, without a `return` of a value; no generator is called so far."""
+    generators = set()
+    parents = parents_of(tree)
+    for function in [each for each in ast.walk(tree) if isinstance(each, ast.FunctionDef)]:
+        yields = [each for each in ast.walk(function) if isinstance(each, ast.Yield)]
+        if not yields:
+            continue
+        generators.add(function.name)
+        for node in yields:
+            around = parents[node]
+            if not isinstance(around, ast.Expr):
+                yield node.lineno, "L23: a yield that is no statement"
+            while around is not function:
+                if isinstance(around, (ast.Try, ast.With)):
+                    yield node.lineno, "L23: a yield under a try or a with"
+                around = parents[around]
+        if any(isinstance(each, ast.Return) and each.value for each in ast.walk(function)) or function.decorator_list:
+            yield function.lineno, "L23: a generator that returns a value or has a decorator"
+    for node in ast.walk(tree):
+        if isinstance(node, (ast.Name, ast.Attribute)) and getattr(node, "id", getattr(node, "attr", "")) in generators:
+            yield node.lineno, "L23: a generator is used (not so in this package so far)"
 
 
 def call_faults(tree):
@@ -279,8 +377,8 @@ def class_faults(tree):
 def faults(source):
     """The tuples (line, fault) of one file."""
     tree = ast.parse(source)
-    parts = [name_faults, module_faults, expression_faults, class_faults, handler_faults, call_faults, loop_faults,
-             silence_faults, signature_faults]
+    parts = [name_faults, module_faults, expression_faults, class_faults, handler_faults, finally_faults, table_faults,
+             class_method_faults, generator_faults, call_faults, loop_faults, silence_faults, signature_faults]
     return sorted(set(text_faults(source)) | {fault for part in parts for fault in part(tree)})
 
 

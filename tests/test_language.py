@@ -57,7 +57,17 @@ class FaultsTest(unittest.TestCase):
             "class A:\n    def __len__(self):\n        return self.x", "class A:\n    def __hash__(self):\n        return 1",
             "def f():\n    raise ValueError", "def f():\n" + "    pass\n" * 40, "#\n" * 400,
             "def f():\n    try:\n        g()\n    except ValueError:\n        pass", "def f(x=[]):\n    return x",
-            "from settingsmerge.errors import A\ndef f():\n    try:\n        g()\n    finally:\n        pass",
+            "from settingsmerge.errors import A\ndef f():\n    try:\n        g()\n    except (A, KeyError):\n        return 1",
+            "def f(x):\n    try:\n        g()\n    finally:\n        x.append(1)",
+            "def f(x):\n    try:\n        g()\n    finally:\n        x.y = x[0]",
+            "def f(x):\n    try:\n        g()\n    finally:\n        return x",
+            "def f(x):\n    try:\n        k = 1\n    finally:\n        x.y = k",
+            "def f(x):\n    try:\n        g()\n    finally:\n        if x:\n            x.y = 1",
+            "X = {1: [2]}", "X = len(\"a\")", "X = {1: f}\ndef f(x):\n    return x", "X = {}\ndef f(x):\n    return X[1](x)",
+            "class A:\n    @classmethod\n    def f(cls, x):\n        return x(cls)",
+            "def f(x):\n    y = yield x\n    return", "def f(x):\n    yield x\n    return 1",
+            "def f(x):\n    try:\n        yield x\n    finally:\n        pass",
+            "def f(x):\n    yield x\ndef g(x):\n    k = f(x)\n    return k",
             "def f(x):\n    y = range(x)\n    return y", "def f(x):\n    return x.items()",
             "def f(x):\n    return print(x)", "def f(x):\n    return list(x, key=1)",
             "def f(x):\n    for y in x:\n        x.append(y)", "def f(x):\n    for k, y in enumerate(x):\n        x[k] = y",
@@ -69,6 +79,18 @@ class FaultsTest(unittest.TestCase):
         ]:
             with self.subTest(code):
                 self.assertNotEqual(language.faults(code), [])
+
+    def test_right_code_has_no_faults(self):
+        for code in [
+            "from settingsmerge.errors import A, B\ndef f(x):\n    try:\n        x.g()\n    except (A, B):\n        return 1",
+            "def f(x):\n    y, k = x.y, None\n    try:\n        x.g()\n        k = True\n    finally:\n"
+            "        if k is None:\n            x.y, x.k = y, k\n    return 1",
+            "def f(x):\n    return x\nX = {\"a\": f, \"b\": (1, 2)}\ndef g(x):\n    k = X[x]\n    return k(x)",
+            "class A:\n    @classmethod\n    def f(cls, x):\n        return cls(x)",
+            "def f(xs):\n    for x in xs:\n        yield x",
+        ]:
+            with self.subTest(code):
+                self.assertEqual(language.faults(code), [])
 
     def test_shared_faults_are_found(self):
         for code in [

@@ -1,7 +1,6 @@
 """Histories, edits, jumps and texts that a seed decides, against the model [6 to 20]."""
 
 import itertools
-import random
 import unittest
 
 import model
@@ -9,33 +8,13 @@ import worlds
 from settingsmerge.conflicts import is_cover, is_matching
 from settingsmerge.errors import BadEdit, BadText, Excluded, NoChain
 from settingsmerge.files import SettingsFile
-from settingsmerge.history import History, Release
 from settingsmerge.layout import written
 from settingsmerge.merging import Merge
 from settingsmerge.states import State, edited
+from worlds import plain, state_of, world
 
 WORLDS = 300
 DEEDS = 12
-
-
-def world(seed, percent=8):
-    """A random source, the model of a history, and the history: a crowded one if the seed is even."""
-    rng = random.Random(seed)
-    releases = worlds.releases_of(rng, rng.choice([4, 7, 9])) if seed % 2 else worlds.crowded_releases(rng)
-    exclusions = worlds.exclusions_of(rng, releases, rng.choice([0, 3, 6]) if seed % 2 else percent)
-    history = History(
-        *[Release(text, renames=renames, returns=returns) for text, renames, returns in releases],
-        exclusions=exclusions,
-    )
-    return rng, model.Past(releases, exclusions), history
-
-
-def plain(state):
-    return (state.release, state.rows, state.rules)
-
-
-def state_of(plain_state):
-    return State(plain_state[0], plain_state[1], rules=plain_state[2])
 
 
 class WorldsTest(unittest.TestCase):

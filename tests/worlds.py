@@ -1,8 +1,11 @@
 """Histories, edits and jumps that a seed decides, for tests against the model."""
 
 import itertools
+import random
 
 import model
+from settingsmerge.history import History, Release
+from settingsmerge.states import State
 
 SECTIONS = ["net", "log", "ui"]
 KEYS = ["a", "b", "c", "d"]
@@ -134,3 +137,29 @@ def changed_lines(rng, past, state, text):
     if rng.random() < 0.05:
         lines.insert(rng.randint(0, len(lines)), rng.choice(["[none]", "#~ 0 net.a", "#~ 9 net.a = 1"]))
     return lines
+
+
+def history_of(releases, exclusions=()):
+    """The history of the package for what the model is made of."""
+    return History(
+        *[Release(text, renames=renames, returns=returns) for text, renames, returns in releases],
+        exclusions=exclusions,
+    )
+
+
+def world(seed, percent=8):
+    """A random source, the model of a history, and the history: a crowded one if the seed is even."""
+    rng = random.Random(seed)
+    releases = releases_of(rng, rng.choice([4, 7, 9])) if seed % 2 else crowded_releases(rng)
+    exclusions = exclusions_of(rng, releases, rng.choice([0, 3, 6]) if seed % 2 else percent)
+    return rng, model.Past(releases, exclusions), history_of(releases, exclusions)
+
+
+def plain(state):
+    """A state of the package as the model has it."""
+    return (state.release, state.rows, state.rules)
+
+
+def state_of(plain_state):
+    """A state of the model as the package has it."""
+    return State(plain_state[0], plain_state[1], rules=plain_state[2])
