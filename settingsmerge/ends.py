@@ -90,8 +90,10 @@ def ends(history, state, walk):
     """Yields the ends (answers, state) of a walk, in their order."""
     check_walk(history, walk)
     release = walk[-1] if len(walk) > 0 else state.release
+    # Ends that are asked for later are those of the same state, whatever its holder did to it meanwhile.
+    rules = state.rules
     for answers, rows in Walker(history, state).walked(walk):
-        yield (answers, State(release, rows, rules=state.rules))
+        yield (answers, State(release, rows, rules=rules))
 
 
 def parting(history, state, walk):

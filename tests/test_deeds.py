@@ -374,18 +374,22 @@ class AttemptTest(unittest.TestCase):
         self.assertEqual(len(box), 0)
 
     def test_states_that_the_function_changes(self):
-        def function(box):
-            box.undo()
+        def now(box):
             box.state.rows = ()
             raise KeyError("why")
 
-        box = busy_box()
-        before = told(box)
-        with self.assertRaises(KeyError):
-            box.attempt(function)
-        self.assertEqual(told(box), before)
-        box.undo()
-        self.assertEqual(told(box), told(Installation.replayed(HISTORY, JOURNAL[:-1])))
+        def earlier(box):
+            box.undo()
+            now(box)
+
+        for function in [now, earlier]:
+            box = busy_box()
+            before = told(box)
+            with self.assertRaises(KeyError):
+                box.attempt(function)
+            self.assertEqual(told(box), before)
+            box.undo()
+            self.assertEqual(told(box), told(Installation.replayed(HISTORY, JOURNAL[:-1])))
 
 
 if __name__ == "__main__":

@@ -154,6 +154,14 @@ class GeneratorTest(unittest.TestCase):
         self.assertEqual([first] + list(late), other)
         self.assertRaises(StopIteration, next, late)
 
+    def test_a_state_that_is_changed_meanwhile(self):
+        state = owned(HISTORY)
+        expected = list(ends(HISTORY, state, (1, 2)))
+        late = ends(HISTORY, state, (1, 2))
+        first = next(late)
+        state.release, state.rows, state.rules = 2, (), ((("all", ""), "own"),)
+        self.assertEqual([first] + list(late), expected)
+
     def test_not_asked_for(self):
         big = rising(*[1] * 7)
         for walk in [(3,), (0, 9), (1,)]:
